@@ -1,0 +1,1 @@
+"""Joinback: classes that are joined and taken back."""
