@@ -1,7 +1,15 @@
 """Classes and numbers, found by going through all joinings."""
 
 from joinback.errors import Clash
-from joinback.steps import counted, steps_of
+from joinback.steps import counted, ends, steps_of
+
+
+def names_with(joinings, one, other):
+    """The rising list of the joinings' names and of these two, each once."""
+    found = [one, other]
+    for joining in joinings:
+        found.extend(ends(joining, 1))
+    return sorted(set(found))
 
 
 def ends_by_name(names, joinings):
@@ -16,8 +24,10 @@ def ends_by_name(names, joinings):
 def ways_from(leading, start):
     """By name, of all that hang together with start: a straight way from start to it.
 
-    The way to a name is the way to some other name and one joining more, so
-    all of them together are a tree.
+    It has fewest joinings, and is the first of such as tuples rise: ways wait
+    by their lengths and then as they rise, and each name's joinings are gone
+    through by rising numbers. The way to a name is the way to some other name
+    and one joining more, so all of them together are a tree.
     """
     ways = {start: ()}
     waiting = [start]

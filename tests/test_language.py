@@ -39,6 +39,15 @@ type typing typing_extensions enum Enum IntEnum StrEnum Flag IntFlag Generic Pro
 NamedTuple TypedDict TYPE_CHECKING abstractmethod
 """.split()
 
+WALKERS = "list tuple dict sorted sum any all enumerate zip min max".split()
+
+
+def called(node):
+    """The name by which a node calls a function or a method, or None."""
+    if not isinstance(node, ast.Call):
+        return None
+    return node.func.attr if isinstance(node.func, ast.Attribute) else getattr(node.func, "id", None)
+
 
 def bound_names(tree):
     """Every name that a file gives a meaning: defs, classes, parameters, locals."""
@@ -74,6 +83,12 @@ class Language(unittest.TestCase):
             for node in ast.walk(tree):
                 if isinstance(node, kinds):
                     yield f"{name}:{getattr(node, 'lineno', 0)}", node
+
+    def nodes_with_above(self, *kinds):
+        for where, above in self.nodes(ast.AST):
+            for node in ast.iter_child_nodes(above):
+                if isinstance(node, kinds):
+                    yield where, node, above
 
     def test_the_folder_holds_files_of_python_alone(self):
         for path in PACKAGE.iterdir():
@@ -163,6 +178,18 @@ class Language(unittest.TestCase):
                 if isinstance(sign, (ast.Is, ast.IsNot)):
                     self.assertIsInstance(right, ast.Constant, where)
                     self.assertIn(right.value, (None, True, False), where)
+
+    def test_sets_are_asked_on_the_spot(self):
+        for where, node, above in self.nodes_with_above(ast.Call, ast.Set, ast.SetComp):
+            if not isinstance(node, ast.Call) or called(node) in ("set", "frozenset"):
+                self.assertNotEqual(called(node), "frozenset", where)
+                self.assertTrue(called(above) in ("len", "sorted") or isinstance(above, ast.Compare), where)
+
+    def test_what_is_walked_at_once(self):
+        for where, node, above in self.nodes_with_above(ast.Call):
+            if called(node) in ("zip", "enumerate", "reversed", "range", "items", "keys", "values"):
+                walked = isinstance(above, (ast.For, ast.comprehension)) and above.iter == node
+                self.assertTrue(walked or called(above) in WALKERS, where)
 
     def test_what_stands_at_a_file_s_top(self):
         for name, tree in self.trees.items():

@@ -2,27 +2,10 @@ import itertools
 import random
 import unittest
 
+from helper import FAR, FORTY, TURNS, plain_classes, some_joinings
 from joinback.errors import BadName, BadRow, Clash, JoinError, NoJoin, NoMoment, NoName
 from joinback.plain import apart, classes, numbers_of
 from joinback.steps import counted, led, steps_of
-
-FAR = 10 ** 12
-TURNS = (0, 1, 2, 3, 1000)
-FORTY = [chr(97 + at // 10) + chr(97 + at % 10) for at in range(40)]
-
-
-def plain_classes(names, joinings):
-    """The classes by another road: labels that are made alike until nothing changes."""
-    label = {name: name for name in names}
-    changed = True
-    while changed:
-        changed = False
-        for one, other, _ in joinings:
-            least = min(label[one], label[other])
-            if label[one] != least or label[other] != least:
-                label[one] = label[other] = least
-                changed = True
-    return sorted([sorted([n for n in names if label[n] == head]) for head in set(label.values())])
 
 
 def is_ring(joinings, name, ring):
@@ -63,10 +46,6 @@ def long_chain(many):
         else:
             joinings.append((FORTY[low + 1], FORTY[low], -step))
     return joinings
-
-
-def some_joinings(chance, names, many, steps):
-    return [(chance.choice(names), chance.choice(names), chance.choice(steps)) for again in range(many)]
 
 
 class PlainCase(unittest.TestCase):
