@@ -90,6 +90,91 @@ def plainly_parting(joinings, one, other, some):
     return not any(len({begin, end} - set(some)) == 1 and begin != end for begin, end, step in joinings)
 
 
+def lists_in(told):
+    """All lists that a told thing is made of, itself too."""
+    if is_of(told, list):
+        yield told
+    if is_of(told, list, tuple):
+        for part in told:
+            yield from lists_in(part)
+
+
+def is_plainly_made(told):
+    """Whether a told thing is made of tuples, lists, numbers, texts, True, False and None."""
+    if is_of(told, list, tuple):
+        return all(is_plainly_made(part) for part in told)
+    return is_of(told, int, str, bool) or told is None
+
+
+def spoil_lists(told):
+    """Changes every list of a told thing, as an asker may."""
+    for found in list(lists_in(told)):
+        found.reverse()
+        found.append("spoilt")
+
+
+def check_told_is_own(case, ask):
+    """The same is told twice, made of plain things, with no list twice; changing it changes nothing else."""
+    told, again = ask(), ask()
+    case.assertEqual(told, again)
+    case.assertTrue(is_plainly_made(told))
+    found = list(lists_in([told, again]))
+    case.assertEqual(len({id(one) for one in found}), len(found))
+    spoil_lists(told)
+    case.assertEqual(ask(), again)
+
+
+def joinings_that_come_out(chance, names, many, turn):
+    """Joinings that agree with hidden numbers, but for some that are off by a step."""
+    hidden = {name: chance.choice((chance.randrange(-9, 10), FAR // 2, -FAR // 2)) for name in names}
+    joinings = []
+    for again in range(many):
+        one, other = chance.choice(names), chance.choice(names)
+        off = chance.choice((0, 0, 0, 0, 1, -1, turn))
+        joinings.append((one, other, hidden[other] - hidden[one] + off))
+    return joinings
+
+
+def told_or_refused(ask, *things):
+    """What is told, or the name of the refusal's class."""
+    try:
+        return ask(*things)
+    except ValueError as refusal:
+        return refusal.__class__.__name__
+
+
+def mesh_face(mesh, pool):
+    """All that a mesh tells of these names, there or not, as it is now."""
+    told = [mesh.names_now(), mesh.standing(), mesh.holding(), mesh.all_classes(), mesh.moment()]
+    told += [told_or_refused(mesh.class_of, name) for name in pool]
+    for one, other in itertools.product(pool, repeat=2):
+        told += [told_or_refused(ask, one, other) for ask in (mesh.together, mesh.steps, mesh.way, mesh.few_way)]
+        told += [mesh.times_together(one, other), mesh.eldest_time(one, other)]
+    return told
+
+
+def number_that_comes_next(mesh):
+    """The number that a mesh gives to its next joining, asked of a copy."""
+    mesh = mesh.copy()
+    if not mesh.names_now():
+        mesh.put_name("new")
+    name = mesh.names_now()[0]
+    return mesh.join(name, name, 0)[1]
+
+
+def chance_deed(chance, mesh, pool):
+    """A deed of a mesh, with what it's handed: now and then one that is refused or clashes."""
+    name, numbers = chance.choice(pool), [row[0] for row in mesh.standing()]
+    luck = chance.random()
+    if luck < 0.1:
+        return ("put_name", name)
+    if luck < 0.14:
+        return ("drop_name", name)
+    if luck < 0.3:
+        return ("take", chance.choice(numbers + [-1, 0, 99]))
+    return ("join", name, chance.choice(mesh.names_now() + [name]), chance.choice((0, 0, 0, 0, 2, -2, 1)))
+
+
 def deep(kind, inner, many):
     thing = inner
     for again in range(many):

@@ -1,6 +1,7 @@
 import unittest
 
-from joinback.naming import is_name
+from joinback.errors import BadName, NoName
+from joinback.naming import check_names, check_new, check_there, is_name
 
 
 class IsName(unittest.TestCase):
@@ -28,6 +29,27 @@ class IsName(unittest.TestCase):
         for thing in (None, True, False, 0, 7, b"abc", ["a"], ("a",), {"a": 1}, [], ()):
             with self.subTest(thing=thing):
                 self.assertIs(is_name(thing), False)
+
+
+class Checks(unittest.TestCase):
+    def test_a_list_is_refused_at_its_first_wrong_place(self):
+        for things, place in ((["a", "B", "a"], 1), (["a", "b", "a", 7], 2), ([[], []], 0), (("a", "a"), 1)):
+            with self.assertRaises(BadName) as told:
+                check_names(things)
+            self.assertEqual(told.exception.place, place)
+
+    def test_right_ones_are_not_refused(self):
+        self.assertIsNone(check_names([]))
+        self.assertIsNone(check_names(("b", "a", "ab")))
+        self.assertIsNone(check_new(["a"], "b", 0))
+        self.assertIsNone(check_there(["a"], "a"))
+
+    def test_a_name_that_is_there_or_is_not(self):
+        with self.assertRaises(BadName) as told:
+            check_new(["a"], "a", 5)
+        self.assertEqual(told.exception.place, 5)
+        with self.assertRaises(NoName):
+            check_there(["ab"], "a")
 
 
 if __name__ == "__main__":
