@@ -121,12 +121,12 @@ class Mesh:
     def way(self, one, other):
         """The eldest way from one to other by the joinings' own numbers, or None."""
         self.check_two(one, other)
-        return own_way(self.now(), eldest_way(joinings_in(self.now()), one, other))
+        return own_way(numbers_in(self.now()), eldest_way(joinings_in(self.now()), one, other))
 
     def few_way(self, one, other):
         """The fewest way from one to other by the joinings' own numbers, or None."""
         self.check_two(one, other)
-        return own_way(self.now(), fewest_way(joinings_in(self.now()), one, other))
+        return own_way(numbers_in(self.now()), fewest_way(joinings_in(self.now()), one, other))
 
     def moment(self):
         """The number of the moment now."""

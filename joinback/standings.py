@@ -35,11 +35,10 @@ def joinings_in(standing):
     return [(one, other, step) for n, one, other, step in standing.rows]
 
 
-def own_way(standing, way):
-    """A way by places as one by own numbers; None stays."""
+def own_way(numbers, way):
+    """A way by places as one by the own numbers of what stands there; None stays."""
     if way is None:
         return None
-    numbers = numbers_in(standing)
     return tuple([(numbers[place], side) for place, side in way])
 
 

@@ -135,6 +135,42 @@ def joinings_that_come_out(chance, names, many, turn):
     return joinings
 
 
+def some_rows(chance, names, many, last):
+    """Rows of chance steps and stretches of time, now and then alike, turned about, touching or in one another."""
+    rows = []
+    for again in range(many):
+        begin = chance.randrange(last)
+        row = (chance.choice(names), chance.choice(names), chance.choice((0, 0, 0, 1, -2)))
+        rows.append(row + (begin, chance.randrange(begin, last) + 1))
+        if chance.random() < 0.2:
+            one, other, step, begin, end = chance.choice(rows)
+            rows.append((other, one, -step, end, end + chance.randrange(1, 4)))
+    return rows[:many]
+
+
+def times_about(rows):
+    """Nought, every begin and end, and the times beside them."""
+    return sorted({0} | {max(0, time + off) for row in rows for time in row[3:] for off in (-1, 0, 1)})
+
+
+def joinings_then(rows, time):
+    """The joinings that stand at a time, by the document's words."""
+    return [(one, other, step) for one, other, step, begin, end in rows if time in range(begin, end)]
+
+
+def check_stretches(case, told, rows, holds):
+    """They rise, none is empty, none touch, and their times are those at which it holds of what stands."""
+    for begin, end in told:
+        case.assertLess(begin, end)
+    for (begin, end), (later, last) in zip(told, told[1:]):
+        case.assertLess(end, later)
+    for time in times_about(rows):
+        inside = any(begin <= time < end for begin, end in told)
+        case.assertEqual(inside, holds(joinings_then(rows, time)), (rows, time))
+    edges = {time for row in rows for time in row[3:]}
+    case.assertLessEqual({time for stretch in told for time in stretch}, edges)
+
+
 def told_or_refused(ask, *things):
     """What is told, or the name of the refusal's class."""
     try:

@@ -189,7 +189,8 @@ class Times(unittest.TestCase):
         self.assertEqual(mesh.times_together("b", "a"), [(1, 2), (4, 4)])
         self.assertEqual(mesh.times_together("b", "c"), [(2, 4)])
         self.assertEqual(mesh.times_together("b", "b"), [(0, 4)])
-        self.assertEqual((mesh.eldest_time("a", "b"), mesh.eldest_time("c", "a"), mesh.eldest_time("a", "a")), (1, 2, 0))
+        pairs = (("a", "b"), ("c", "a"), ("a", "a"))
+        self.assertEqual([mesh.eldest_time(*pair) for pair in pairs], [1, 2, 0])
 
     def test_names_that_came_went_and_came_again(self):
         mesh = Mesh(["a"], 0)
@@ -204,7 +205,8 @@ class Times(unittest.TestCase):
         self.assertEqual(mesh.times_together("a", "b"), [(2, 2), (6, 6)])
         self.assertEqual(mesh.times_together("a", "a"), [(0, 6)])
         self.assertEqual(mesh.times_together("c", "c"), [(5, 7)])
-        self.assertEqual((mesh.eldest_time("b", "b"), mesh.eldest_time("b", "a"), mesh.eldest_time("c", "c")), (1, 2, 5))
+        pairs = (("b", "b"), ("b", "a"), ("c", "c"))
+        self.assertEqual([mesh.eldest_time(*pair) for pair in pairs], [1, 2, 5])
 
     def test_names_that_never_were_there(self):
         mesh = Mesh(["a"], 0)
